@@ -147,9 +147,10 @@ def read_order(text):
     words = text.split(" ")
     if words[0] not in HEADS:
         raise NoText(0)
+    n = HEADS.index(words[0])
     pairs = [read_pair(word) for word in words[1:]]
     try:
-        order = Order(HEADS.index(words[0]), pairs)
+        order = Order(n, pairs)
     except Fault:
         raise NoText(0) from None
     # Pairs that are no covers, come twice or stand in another order make an order, too,

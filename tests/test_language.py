@@ -3,6 +3,7 @@
 import ast
 import re
 import unittest
+import warnings
 
 from helper import PACKAGE
 
@@ -68,6 +69,12 @@ class FilesTest(unittest.TestCase):
             self.assertTrue(all(sign == "\n" or " " <= sign <= "~" for sign in text), path.name)
         for name, node in nodes(ast.FunctionDef):
             self.assertLessEqual(node.end_lineno - node.lineno + 1, 40, (name, node.name))
+
+    def test_python_warns_of_nothing(self):
+        with warnings.catch_warnings():
+            warnings.simplefilter("error")
+            for path in files():
+                compile(path.read_text(), path.name, "exec")
 
     def test_barred_words(self):
         for path in files():
