@@ -39,8 +39,7 @@ class Order:
 
     def below(self):
         """Return the tuple of the sets of the points below each point."""
-        points = range(self.n)
-        return tuple([set_of([x for x in points if self.less(x, y)]) for y in points])
+        return turned_sets(self.above)
 
     def less(self, x, y):
         """Return True if x is below y."""
@@ -56,12 +55,11 @@ class Order:
 
     def pairs(self):
         """Return the ascending tuple of all pairs (x, y) with x below y."""
-        return tuple([(x, y) for x in range(self.n) for y in members(self.above[x])])
+        return related_pairs(self.above)
 
     def covers(self):
         """Return the ascending tuple of the pairs (x, y) with x below y and no point between."""
-        below = self.below()
-        return tuple([(x, y) for x, y in self.pairs() if self.above[x] & below[y] == 0])
+        return cover_pairs(self.above)
 
     def minimal(self):
         """Return the set of the points that no point is below."""
@@ -138,6 +136,23 @@ def closed(n, pairs):
             if has(above[x], middle):
                 above[x] = above[x] | above[middle]
     return tuple(above)
+
+
+def turned_sets(above):
+    """Return the tuple of the sets of the points below each point, given those of the points above."""
+    points = range(len(above))
+    return tuple([set_of([x for x in points if has(above[x], y)]) for y in points])
+
+
+def related_pairs(above):
+    """Return the ascending tuple of the pairs (x, y) with x below y, given the sets above each point."""
+    return tuple([(x, y) for x in range(len(above)) for y in members(above[x])])
+
+
+def cover_pairs(above):
+    """Return the ascending tuple of the covers, given the sets above each point."""
+    below = turned_sets(above)
+    return tuple([(x, y) for x, y in related_pairs(above) if above[x] & below[y] == 0])
 
 
 def read_order(text):

@@ -6,6 +6,8 @@ import inspect
 import itertools
 import pathlib
 
+from orderforms.incidence import Incidence
+from orderforms.lattice import Lattice
 from orderforms.order import Order
 
 ROOT = pathlib.Path(__file__).resolve().parent.parent
@@ -25,6 +27,7 @@ VALUES = NO_INTEGERS + (
     -1, -2, 0, 1, 2, 3, 7, 10, 11, 2**70, -(2**70), "0:", "2: 0<1",
     [True], (True,), (False, 0), (0, 0), (0, 1), (1, 0), [0, 1], (-1,), (None,), ("0",), (2**70,),
     ((),), ((0,),), ((0,), (1,)), ([0], [1]), [(0,), (1,)], ((True,),), (0, (1,)), ((0, 0),),
+    Lattice(1, ()), Lattice(2, ((0, 1),)), Incidence(Order(0, ()), ()), Incidence(Order(1, ()), ((1,),)),
 )
 
 
@@ -93,10 +96,71 @@ def relation(order):
     return {(x, y) for x in range(order.n) for y in points_of(order.above[x])}
 
 
+def at_most_pairs(n, pairs):
+    """Return the set of the pairs (x, y) with x at most y, given a transitive relation."""
+    return set(pairs) | {(x, x) for x in range(n)}
+
+
+def bound(n, pairs, x, y):
+    """Return the join of two members by its definition, None if there is none, given a transitive relation."""
+    near = at_most_pairs(n, pairs)
+    common = [z for z in range(n) if (x, z) in near and (y, z) in near]
+    least = [z for z in common if all((z, w) in near for w in common)]
+    return least[0] if least else None
+
+
+def is_lattice(n, pairs):
+    """Tell if a transitive relation without loops is that of a lattice, by the definition."""
+    turned = {(y, x) for x, y in pairs}
+    return n > 0 and all(
+        bound(n, pairs, x, y) is not None and bound(n, turned, x, y) is not None for x in range(n) for y in range(x)
+    )
+
+
+def lattice_relations(n):
+    """Generate relations of lattices of n members, in which 0 is the least one, each lattice up to names."""
+    middle = [(x, y) for x in range(1, n - 1) for y in range(x + 1, n - 1)]
+    ends = {(0, y) for y in range(1, n)} | {(x, n - 1) for x in range(n - 1)}
+    for ways in itertools.product((False, True), repeat=len(middle)):
+        pairs = ends | {pair for pair, way in zip(middle, ways) if way}
+        if is_order(n, pairs) and is_lattice(n, pairs):
+            yield pairs
+
+
+def renumbered_relations(n, pairs):
+    """Generate the relation with the members in some other orders, for few members in each order."""
+    orders = list(itertools.permutations(range(n)))
+    for images in orders[:: 1 if n <= 4 else len(orders) // 3 - 1]:
+        yield {(images[x], images[y]) for x, y in pairs}
+
+
+def lattice_relation(lattice):
+    """Return the set of the pairs of a lattice, from its field `above` alone."""
+    return {(x, y) for x, bits in enumerate(lattice.above) for y in points_of(bits)}
+
+
+def small_lattices(most):
+    """Return all lattices of 1 to `most` members up to names, in some numberings."""
+    return [
+        Lattice(n, sorted(made)) for n in range(1, most + 1)
+        for pairs in lattice_relations(n) for made in renumbered_relations(n, pairs)
+    ]
+
+
+def lattice_chain(n):
+    """Return the lattice of n members in a row."""
+    return Lattice(n, [(x, x + 1) for x in range(n - 1)])
+
+
+def lattice_fan(n):
+    """Return the lattice of n members of which all but the least and the greatest one are unrelated."""
+    return Lattice(n, [(0, x) for x in range(1, n)] + [(x, n - 1) for x in range(n - 1)])
+
+
 def frozen(value):
-    """Return a copy of a value in which lists, tuples and orders can be told apart and compared."""
-    if isinstance(value, Order):
-        return ("Order", value.n, value.above)
+    """Return a copy of a value in which lists, tuples and objects can be told apart and compared."""
+    if isinstance(value, (Order, Lattice, Incidence)):
+        return (type(value).__name__, tuple((name, frozen(item)) for name, item in sorted(vars(value).items())))
     if isinstance(value, (list, tuple)):
         return (type(value).__name__, tuple(frozen(item) for item in value))
     return (type(value).__name__, value)
@@ -126,6 +190,19 @@ def check_steady(test, call, *args):
     test.assertEqual(frozen(second), first, call)
     test.assertEqual(frozen(args), before, call)
     return second
+
+
+def check_class(test, module, name, parameters, methods):
+    """Check that a module defines this class itself, and the class these methods itself, with these parameters."""
+    found = getattr(importlib.import_module(f"orderforms.{module}"), name)
+    tree = ast.parse((PACKAGE / f"{module}.py").read_text())
+    defined = [node for node in tree.body if isinstance(node, ast.ClassDef) and node.name == name]
+    test.assertEqual(len(defined), 1, name)
+    test.assertEqual(str(inspect.signature(found)), parameters, name)
+    standing = [node.name for node in defined[0].body if isinstance(node, ast.FunctionDef)]
+    for method, wanted in methods.items():
+        test.assertEqual(standing.count(method), 1, method)
+        test.assertEqual(str(inspect.signature(vars(found)[method])), wanted, method)
 
 
 def check_names(test, module, functions):

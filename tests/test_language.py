@@ -12,7 +12,8 @@ BUILTINS = {
     "list", "tuple", "dict", "set", "isinstance", "ord", "repr", "any", "all", "divmod",
     "ValueError", "KeyError", "IndexError", "LookupError", "NotImplemented",
 }
-DOUBLE = {"__init__", "__eq__", "__repr__", "__str__", "__len__"}
+OPERATORS = {"__add__": ["self", "other"], "__sub__": ["self", "other"], "__mul__": ["self", "other"], "__neg__": ["self"]}
+DOUBLE = {"__init__", "__eq__", "__repr__", "__str__", "__len__", *OPERATORS}
 BARRED_WORDS = (
     "type", "typing", "typing_extensions", "enum", "Enum", "IntEnum", "StrEnum", "Flag", "IntFlag", "Generic",
     "Protocol", "ABC", "ABCMeta", "namedtuple", "NamedTuple", "TypedDict", "TYPE_CHECKING", "abstractmethod",
@@ -141,6 +142,40 @@ class CodeTest(unittest.TestCase):
             if isinstance(node, ast.FunctionDef):
                 self.assertIsNone(node.returns)
                 self.assertTrue(all(arg.annotation is None for arg in node.args.args))
+
+    def test_operators_take_one_other_and_assign_no_attribute(self):
+        for name, node in nodes(ast.FunctionDef):
+            if node.name in OPERATORS:
+                self.assertEqual([arg.arg for arg in node.args.args], OPERATORS[node.name], (name, node.name))
+                for part in ast.walk(node):
+                    self.assertNotIsInstance(part, (ast.AugAssign, ast.Delete, ast.Lambda), (name, node.name))
+                    if isinstance(part, (ast.Attribute, ast.Subscript)):
+                        self.assertIsInstance(part.ctx, ast.Load, (name, node.name))
+
+    def test_double_underscore_methods_keep_no_range_or_zip(self):
+        for name, node in nodes(ast.FunctionDef):
+            if node.name in DOUBLE - {"__init__"}:
+                for part in ast.walk(node):
+                    if isinstance(part, ast.Assign) and isinstance(part.value, ast.Call):
+                        told = ast.unparse(part.value.func)
+                        self.assertNotIn(told, ("range", "zip", "enumerate", "reversed"), (name, part.lineno))
+
+    def test_generators_are_iterated_at_once(self):
+        made = {node.name for name, node in nodes(ast.FunctionDef) if any(
+            isinstance(part, (ast.Yield, ast.YieldFrom)) for part in ast.walk(node))}
+        self.assertIn("parts", made)
+        for name, tree in trees():
+            at_once = set()
+            for node in ast.walk(tree):
+                if isinstance(node, (ast.For, ast.comprehension)):
+                    at_once.add(node.iter)
+                if isinstance(node, ast.YieldFrom):
+                    at_once.add(node.value)
+                if isinstance(node, ast.Call) and isinstance(node.func, ast.Name) and node.func.id in ("list", "tuple"):
+                    at_once |= set(node.args)
+            for node in ast.walk(tree):
+                if isinstance(node, ast.Call) and isinstance(node.func, ast.Name) and node.func.id in made:
+                    self.assertIn(node, at_once, (name, node.lineno))
 
     def test_any_and_all_take_lists(self):
         for name, node in nodes(ast.GeneratorExp):
