@@ -25,6 +25,12 @@ def is_ascending(value, n):
     return value == members(set_of(value))
 
 
+def has_each_once(parting, n):
+    """Return True if the tuples of points are not empty and each point from 0 to n - 1 is once in them."""
+    points = [x for item in parting for x in item]
+    return all([len(item) > 0 for item in parting]) and sorted(points) == list(range(n))
+
+
 def whole(n):
     """Return the set of the points from 0 to n - 1."""
     return (1 << n) - 1

@@ -1,6 +1,6 @@
 """Largest antichains and longest chains, with partings into chains and antichains."""
 
-from orderforms.bits import has, is_ascending, lowest, members, set_of, whole
+from orderforms.bits import has, has_each_once, is_ascending, lowest, members, set_of, whole
 from orderforms.matching import largest_matching, least_cover
 
 
@@ -94,9 +94,3 @@ def is_antichain_parting(order, parting):
     if not isinstance(parting, tuple) or not all([is_antichain(order, item) for item in parting]):
         return False
     return has_each_once(parting, order.n)
-
-
-def has_each_once(parting, n):
-    """Return True if the tuples of points are not empty and each point from 0 to n - 1 is once in them."""
-    points = [x for item in parting for x in item]
-    return all([len(item) > 0 for item in parting]) and sorted(points) == list(range(n))

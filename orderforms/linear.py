@@ -1,9 +1,9 @@
 """Linear orders above an order, as rows of all its points."""
 
-from orderforms.bits import has, is_integer, is_part, set_of, whole
+from orderforms.bits import is_integer, set_of, whole
 from orderforms.errors import Malformed, Refused
 from orderforms.lower import lower_sets
-from orderforms.order import Order, check_size, is_renumbering
+from orderforms.order import Order, check_size, is_renumbering, next_points
 
 MOST_LISTED = 5040
 
@@ -28,11 +28,6 @@ def ways_behind(order):
         following = [ways[s | (1 << x)] for x in next_points(below, s)]
         ways[s] = 1 if s == whole(order.n) else sum(following)
     return ways
-
-
-def next_points(below, s):
-    """Return the ascending list of the points that may follow a lower set, given the sets below each point."""
-    return [x for x, bits in enumerate(below) if not has(s, x) and is_part(bits, s)]
 
 
 def all_linear(order):

@@ -1,6 +1,6 @@
 """Finite orders of at most 10 points, and their texts."""
 
-from orderforms.bits import has, is_integer, is_point, is_set, members, set_of
+from orderforms.bits import has, is_integer, is_part, is_point, is_set, members, set_of
 from orderforms.errors import Fault, Malformed, NoText, Refused
 
 MOST_POINTS = 10
@@ -153,6 +153,11 @@ def cover_pairs(above):
     """Return the ascending tuple of the covers, given the sets above each point."""
     below = turned_sets(above)
     return tuple([(x, y) for x, y in related_pairs(above) if above[x] & below[y] == 0])
+
+
+def next_points(below, s):
+    """Return the ascending list of the points that may follow a lower set, given the sets below each point."""
+    return [x for x, bits in enumerate(below) if not has(s, x) and is_part(bits, s)]
 
 
 def read_order(text):

@@ -163,7 +163,24 @@ def frozen(value):
         return (type(value).__name__, tuple((name, frozen(item)) for name, item in sorted(vars(value).items())))
     if isinstance(value, (list, tuple)):
         return (type(value).__name__, tuple(frozen(item) for item in value))
+    if isinstance(value, dict):
+        return ("dict", tuple((frozen(key), frozen(item)) for key, item in value.items()))
     return (type(value).__name__, value)
+
+
+def twisted(value):
+    """Generate the copies of a value made of tuples in which one part, within too, has another kind."""
+    if isinstance(value, tuple):
+        yield list(value)
+        yield value + (None,)
+        yield (value,)
+        for k, item in enumerate(value):
+            for other in twisted(item):
+                yield value[:k] + (other,) + value[k + 1:]
+    else:
+        yield from (None, str(value) if isinstance(value, int) else [value], (value,), Order(0, ()))
+        if value in (0, 1):
+            yield value == 1
 
 
 def check_error(test, error, call, *args, **fields):
