@@ -6,9 +6,11 @@ import inspect
 import itertools
 import pathlib
 
+from orderforms.console import Console
 from orderforms.incidence import Incidence
 from orderforms.lattice import Lattice
 from orderforms.order import Order
+from orderforms.replies import Reply
 
 ROOT = pathlib.Path(__file__).resolve().parent.parent
 PACKAGE = ROOT / "orderforms"
@@ -28,6 +30,7 @@ VALUES = NO_INTEGERS + (
     [True], (True,), (False, 0), (0, 0), (0, 1), (1, 0), [0, 1], (-1,), (None,), ("0",), (2**70,),
     ((),), ((0,),), ((0,), (1,)), ([0], [1]), [(0,), (1,)], ((True,),), (0, (1,)), ((0, 0),),
     Lattice(1, ()), Lattice(2, ((0, 1),)), Incidence(Order(0, ()), ()), Incidence(Order(1, ()), ((1,),)),
+    Reply("done"), Reply("number", "1", (1,)), Console(), Console(most=0),
 )
 
 
@@ -159,7 +162,7 @@ def lattice_fan(n):
 
 def frozen(value):
     """Return a copy of a value in which lists, tuples and objects can be told apart and compared."""
-    if isinstance(value, (Order, Lattice, Incidence)):
+    if isinstance(value, (Order, Lattice, Incidence, Reply, Console)):
         return (type(value).__name__, tuple((name, frozen(item)) for name, item in sorted(vars(value).items())))
     if isinstance(value, (list, tuple)):
         return (type(value).__name__, tuple(frozen(item) for item in value))

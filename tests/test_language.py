@@ -9,11 +9,11 @@ from helper import PACKAGE
 
 BUILTINS = {
     "len", "range", "enumerate", "zip", "min", "max", "sum", "abs", "sorted", "reversed", "int", "str", "bool",
-    "list", "tuple", "dict", "set", "isinstance", "ord", "repr", "any", "all", "divmod",
+    "list", "tuple", "dict", "set", "isinstance", "ord", "repr", "any", "all", "divmod", "iter",
     "ValueError", "KeyError", "IndexError", "LookupError", "NotImplemented",
 }
 OPERATORS = {"__add__": ["self", "other"], "__sub__": ["self", "other"], "__mul__": ["self", "other"], "__neg__": ["self"]}
-DOUBLE = {"__init__", "__eq__", "__repr__", "__str__", "__len__", *OPERATORS}
+DOUBLE = {"__init__", "__eq__", "__repr__", "__str__", "__len__", "__iter__", *OPERATORS}
 BARRED_WORDS = (
     "type", "typing", "typing_extensions", "enum", "Enum", "IntEnum", "StrEnum", "Flag", "IntFlag", "Generic",
     "Protocol", "ABC", "ABCMeta", "namedtuple", "NamedTuple", "TypedDict", "TYPE_CHECKING", "abstractmethod",
@@ -50,6 +50,7 @@ def own_names(tree):
     """Return the names that a file binds: imports, functions, classes, parameters, variables."""
     names = {node.id for node in ast.walk(tree) if isinstance(node, ast.Name) and isinstance(node.ctx, ast.Store)}
     names |= {node.arg for node in ast.walk(tree) if isinstance(node, ast.arg)}
+    names |= {node.name for node in ast.walk(tree) if isinstance(node, ast.ExceptHandler) and node.name is not None}
     names |= {node.name for node in ast.walk(tree) if isinstance(node, (ast.FunctionDef, ast.ClassDef))}
     return names | {alias.name for node in ast.walk(tree) if isinstance(node, ast.ImportFrom) for alias in node.names}
 
@@ -134,6 +135,7 @@ class CodeTest(unittest.TestCase):
             taken |= {node.name for node in tree.body if isinstance(node, (ast.FunctionDef, ast.ClassDef))}
             inner = {node.id for node in ast.walk(tree) if isinstance(node, ast.Name) and isinstance(node.ctx, ast.Store)}
             inner |= {node.arg for node in ast.walk(tree) if isinstance(node, ast.arg)}
+            inner |= {node.name for node in ast.walk(tree) if isinstance(node, ast.ExceptHandler)}
             self.assertEqual(inner & taken, set(), name)
 
     def test_no_decorators_and_no_annotations(self):
@@ -176,6 +178,24 @@ class CodeTest(unittest.TestCase):
             for node in ast.walk(tree):
                 if isinstance(node, ast.Call) and isinstance(node.func, ast.Name) and node.func.id in made:
                     self.assertIn(node, at_once, (name, node.lineno))
+
+    def test_iter_stands_alone_in_its_method(self):
+        found = [node for name, node in nodes(ast.Call) if isinstance(node.func, ast.Name) and node.func.id == "iter"]
+        methods = [node for name, node in nodes(ast.FunctionDef) if node.name == "__iter__"]
+        self.assertEqual(len(found), len(methods))
+        for node in methods:
+            self.assertEqual(len(node.body), 1)
+            self.assertRegex(ast.unparse(node.body[0]), "^return iter[(]self[.][a-z]+[)]$")
+
+    def test_exponents_are_small_literals(self):
+        for name, node in nodes(ast.BinOp):
+            if isinstance(node.op, ast.Pow):
+                self.assertIsInstance(node.right, ast.Constant, (name, node.lineno))
+                self.assertIn(node.right.value, range(65), (name, node.lineno))
+
+    def test_handlers_name_own_errors(self):
+        for name, node in nodes(ast.ExceptHandler):
+            self.assertIn(ast.unparse(node.type), ("Fault", "Malformed", "Refused", "NoText"), (name, node.lineno))
 
     def test_any_and_all_take_lists(self):
         for name, node in nodes(ast.GeneratorExp):
